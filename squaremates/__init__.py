@@ -1,0 +1,1 @@
+"""Squaremates: squares that go together."""

@@ -1,0 +1,170 @@
+"""Plain squares, drawn squares and looks at lists, for all tests."""
+
+from itertools import permutations
+from random import Random
+
+TURNINGS = sorted("".join(letters) for letters in permutations("rct"))
+
+# Squares of six things, found by drawing: three least forms among their six turned ones.
+UNEVEN = {
+    "crt": [[3, 5, 2, 1, 4, 0], [5, 4, 0, 3, 2, 1], [4, 0, 3, 2, 1, 5],
+            [0, 3, 1, 4, 5, 2], [2, 1, 5, 0, 3, 4], [1, 2, 4, 5, 0, 3]],
+    "rct": [[2, 0, 4, 1, 3, 5], [0, 1, 2, 5, 4, 3], [1, 5, 3, 0, 2, 4],
+            [4, 3, 1, 2, 5, 0], [3, 2, 5, 4, 0, 1], [5, 4, 0, 3, 1, 2]],
+    "tcr": [[1, 0, 5, 4, 2, 3], [2, 1, 3, 0, 5, 4], [3, 2, 0, 1, 4, 5],
+            [0, 3, 4, 5, 1, 2], [5, 4, 2, 3, 0, 1], [4, 5, 1, 2, 3, 0]],
+}
+
+
+def round_square(n):
+    return [[(r + c) % n for c in range(n)] for r in range(n)]
+
+
+def is_square(square):
+    n = len(square)
+    whole = set(range(n))
+    rows = all(len(row) == n and set(row) == whole for row in square)
+    return rows and all({row[c] for row in square} == whole for c in range(n))
+
+
+def cell_set(square):
+    return {(r, c, square[r][c]) for r in range(len(square)) for c in range(len(square))}
+
+
+def square_from(n, cells):
+    square = [[None] * n for r in range(n)]
+    for r, c, thing in cells:
+        assert square[r][c] is None
+        square[r][c] = thing
+    return square
+
+
+def plain_turned(square, turning):
+    named = [dict(zip("rct", cell)) for cell in cell_set(square)]
+    return square_from(len(square), [tuple(parts[letter] for letter in turning) for parts in named])
+
+
+def plain_renamed(square, renaming):
+    rows, columns, things = renaming
+    return square_from(len(square), [(rows[r], columns[c], things[t]) for r, c, t in cell_set(square)])
+
+
+def drawn_order(draw, n):
+    order = list(range(n))
+    draw.shuffle(order)
+    return order
+
+
+def drawn_renaming(draw, n):
+    return drawn_order(draw, n), drawn_order(draw, n), drawn_order(draw, n)
+
+
+def drawn_row(draw, rows, n, begun):
+    """A row that goes on from what is begun and can stand below these rows, or None."""
+    if len(begun) == n:
+        return begun
+    for thing in drawn_order(draw, n):
+        if thing not in begun and all(row[len(begun)] != thing for row in rows):
+            row = drawn_row(draw, rows, n, [*begun, thing])
+            if row is not None:
+                return row
+    return None
+
+
+def drawn_square(draw, n):
+    square = []
+    for r in range(n):
+        square.append(drawn_row(draw, square, n, []))
+    assert is_square(square)
+    return square
+
+
+def drawn_squares(seed, sizes, many):
+    draw = Random(seed)
+    return [drawn_square(draw, n) for n in sizes for time in range(many)]
+
+
+def all_orders(n):
+    return [list(order) for order in permutations(range(n))]
+
+
+def all_squares(n):
+    """All squares of n things, by rows put below each other."""
+    found = [[]]
+    for r in range(n):
+        found = [
+            [*rows, order]
+            for rows in found
+            for order in all_orders(n)
+            if all(row[c] != order[c] for row in rows for c in range(n))
+        ]
+    return found
+
+
+def lists_in(value):
+    """Every list in a value, as many times as it stands there."""
+    if not isinstance(value, (list, tuple)):
+        return []
+    inner = [found for part in value for found in lists_in(part)]
+    return [value, *inner] if isinstance(value, list) else inner
+
+
+def copied(value):
+    """The same value, with a new list at each place."""
+    if isinstance(value, list):
+        return [copied(part) for part in value]
+    if isinstance(value, tuple):
+        return tuple(copied(part) for part in value)
+    return value
+
+
+def spoil(value):
+    """Change every list in a value."""
+    for found in lists_in(value):
+        found[:] = [-7, -7, -7]
+
+
+def overwrite(value, other):
+    """Give the innermost lists of value what those of the other, of the same shape, have."""
+    for old, new in zip(lists_in(value), lists_in(other)):
+        if not lists_in(new)[1:]:
+            old[:] = new
+
+
+def check_own(case, function, first, second):
+    """Promise [2] of one function, for two tuples of arguments that differ in their innermost lists alone."""
+    first_told = copied(function(*copied(first)))
+    second_told = copied(function(*copied(second)))
+    handed = copied(first)
+
+    told = function(*handed)
+    case.assertEqual(told, first_told)
+    case.assertEqual(handed, first)
+    again = function(*handed)
+    case.assertEqual(again, first_told)
+    addresses = [id(found) for found in lists_in((handed, told, again))]
+    case.assertEqual(len(addresses), len(set(addresses)))
+
+    spoil(told)
+    case.assertEqual(handed, first)
+    case.assertEqual(again, first_told)
+    case.assertEqual(function(*handed), first_told)
+
+    overwrite(handed, second)
+    case.assertEqual(handed, second)
+    case.assertEqual(function(*handed), second_told)
+    case.assertEqual(again, first_told)
+
+    spoil(handed)
+    case.assertEqual(again, first_told)
+    case.assertEqual(function(*copied(first)), first_told)
+
+
+def check_refused(case, kind, function, *arguments):
+    """Refused with just this class, and the handed lists stay; the error is told."""
+    kept = copied(arguments)
+    with case.assertRaises(kind) as caught:
+        function(*arguments)
+    case.assertEqual(type(caught.exception), kind)
+    case.assertEqual(arguments, kept)
+    return caught.exception
