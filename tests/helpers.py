@@ -4,6 +4,8 @@ from itertools import permutations
 from random import Random
 
 TURNINGS = sorted("".join(letters) for letters in permutations("rct"))
+FIELDS = (2, 3, 4, 5, 7, 8, 9)
+FORTY = 10 ** 40 - 1
 
 # Squares of six things, found by drawing: three least forms among their six turned ones.
 UNEVEN = {
@@ -14,6 +16,14 @@ UNEVEN = {
     "tcr": [[1, 0, 5, 4, 2, 3], [2, 1, 3, 0, 5, 4], [3, 2, 0, 1, 4, 5],
             [0, 3, 4, 5, 1, 2], [5, 4, 2, 3, 0, 1], [4, 5, 1, 2, 3, 0]],
 }
+
+# Squares of six things, found by drawing, that have no way, though no plain sum paper bars them.
+WAYLESS_SIX = [
+    [[4, 3, 1, 0, 5, 2], [5, 4, 2, 3, 0, 1], [3, 2, 0, 5, 1, 4],
+     [2, 0, 3, 1, 4, 5], [0, 1, 5, 4, 2, 3], [1, 5, 4, 2, 3, 0]],
+    [[1, 0, 3, 2, 4, 5], [4, 3, 0, 5, 1, 2], [0, 4, 5, 3, 2, 1],
+     [5, 1, 2, 4, 3, 0], [2, 5, 4, 1, 0, 3], [3, 2, 1, 0, 5, 4]],
+]
 
 
 def round_square(n):
@@ -99,6 +109,22 @@ def all_squares(n):
             if all(row[c] != order[c] for row in rows for c in range(n))
         ]
     return found
+
+
+def plain_mates(one, other):
+    """Whether each pair of things comes just once."""
+    pairs = [(a, b) for row, over in zip(one, other) for a, b in zip(row, over)]
+    return all(pairs.count((a, b)) == 1 for a in range(len(one)) for b in range(len(one)))
+
+
+def plain_is_way(square, way):
+    n = len(square)
+    return (len(way) == n and all(0 <= c < n for c in way) and len(set(way)) == n
+            and len({square[r][way[r]] for r in range(n)}) == n)
+
+
+def plain_ways(square):
+    return [order for order in all_orders(len(square)) if plain_is_way(square, order)]
 
 
 def lists_in(value):

@@ -2,10 +2,8 @@ import unittest
 
 from squaremates.errors import NoField
 from squaremates.fields import plus, times
-from tests.helpers import check_own, check_refused
+from tests.helpers import FIELDS, FORTY, check_own, check_refused
 
-FIELDS = (2, 3, 4, 5, 7, 8, 9)
-FORTY = 10 ** 40 - 1
 FOUR = [[0, 0, 0, 0], [0, 1, 2, 3], [0, 2, 3, 1], [0, 3, 1, 2]]
 EIGHT = [
     [0, 0, 0, 0, 0, 0, 0, 0], [0, 1, 2, 3, 4, 5, 6, 7], [0, 2, 4, 6, 3, 1, 7, 5], [0, 3, 6, 5, 7, 4, 1, 2],

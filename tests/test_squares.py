@@ -4,11 +4,10 @@ from random import Random
 from squaremates.errors import MateError, NoOrder, NoSquare, NoTurning
 from squaremates.squares import back, cells, joined, joined_turnings, look_at_square, renamed, turned
 from tests.helpers import (
-    TURNINGS, all_orders, all_squares, cell_set, check_own, check_refused, drawn_order, drawn_renaming,
+    FORTY, TURNINGS, all_orders, all_squares, cell_set, check_own, check_refused, drawn_order, drawn_renaming,
     drawn_square, drawn_squares, is_square, plain_renamed, plain_turned, round_square,
 )
 
-FORTY = 10 ** 40 - 1
 SAMPLES = drawn_squares(4, range(1, 10), 4)
 WRONG_TURNINGS = [
     "", "r", "c", "t", "rc", "rr", "rrr", "rct ", " rct", "rctr", "rctt", "rrct", "rcc", "rrt", "ctt", "tct",
