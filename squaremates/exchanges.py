@@ -113,7 +113,7 @@ def exchanges(one, other):
     level = [one]
     while key_of(other) not in reached:
         level = gone_on(reached, level)
-    return [(sort, i, k, list(ring)) for sort, i, k, ring in reached[key_of(other)]]
+    return reached[key_of(other)]
 
 
 def key_of(square):

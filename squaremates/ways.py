@@ -51,6 +51,11 @@ def through(square):
     return [[[way[r] for way in known].count(c) for c in range(n)] for r in range(n)]
 
 
+def apart(one, other):
+    """Whether two ways have no cell in common."""
+    return all(c != column for c, column in zip(one, other))
+
+
 def full_cells(square, places):
     """The tuples (row, column, thing) for these tuples (row, column)."""
     return [(r, c, square[r][c]) for r, c in places]

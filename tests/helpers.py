@@ -1,11 +1,16 @@
 """Plain squares, drawn squares and looks at lists, for all tests."""
 
-from itertools import permutations
+from itertools import chain, combinations, permutations
 from random import Random
+
+from squaremates.makings import field_squares
 
 TURNINGS = sorted("".join(letters) for letters in permutations("rct"))
 FIELDS = (2, 3, 4, 5, 7, 8, 9)
 FORTY = 10 ** 40 - 1
+
+# The square of four things, up to renamings, that has ways and a mate.
+FOUR_ONCE = [[0, 1, 2, 3], [1, 0, 3, 2], [2, 3, 0, 1], [3, 2, 1, 0]]
 
 # Squares of six things, found by drawing: three least forms among their six turned ones.
 UNEVEN = {
@@ -111,6 +116,13 @@ def all_squares(n):
     return found
 
 
+def drawn_set(draw, q, many):
+    """So many squares of q things, from a field, each two of them mates."""
+    rows, columns = drawn_order(draw, q), drawn_order(draw, q)
+    return [plain_renamed(square, (rows, columns, drawn_order(draw, q)))
+            for square in draw.sample(field_squares(q), many)]
+
+
 def plain_mates(one, other):
     """Whether each pair of things comes just once."""
     pairs = [(a, b) for row, over in zip(one, other) for a, b in zip(row, over)]
@@ -125,6 +137,63 @@ def plain_is_way(square, way):
 
 def plain_ways(square):
     return [order for order in all_orders(len(square)) if plain_is_way(square, order)]
+
+
+def plain_clash(square, cells):
+    """Whether two unlike cells (row, column) are in one row or column, or have one thing."""
+    return any(one != other and (one[0] == other[0] or one[1] == other[1]
+                                 or square[one[0]][one[1]] == square[other[0]][other[1]])
+               for one in cells for other in cells)
+
+
+def plain_open(square, chosen):
+    """The cells (row, column), in order, that are in no row and column of a chosen one and have no thing of one."""
+    n = len(square)
+    return [(r, c) for r in range(n) for c in range(n)
+            if (r, c) not in chosen and not any(plain_clash(square, [(r, c), cell]) for cell in chosen)]
+
+
+def plain_rests(square, chosen, paper):
+    """The rests other than 0 of the open cells."""
+    m, rows, columns, things = paper
+    rests = {(r, c): (things[square[r][c]] - rows[r] - columns[c]) % m for r, c in plain_open(square, chosen)}
+    return {cell: rest for cell, rest in rests.items() if rest != 0}
+
+
+def plain_aim(taken, paper):
+    """The aim, counted without the chosen cells, here told as tuples (row, column, thing)."""
+    m, rows, columns, things = paper
+    signs = ((0, -1, rows), (1, -1, columns), (2, 1, things))
+    return sum(sign * number for part, sign, numbers in signs for k, number in enumerate(numbers)
+               if k not in [cell[part] for cell in taken]) % m
+
+
+def plain_bars(square, chosen, paper):
+    """By the document's words, with all choices of cells gone through."""
+    m, *lists = paper
+    if m < 2 or any(len(numbers) != len(square) for numbers in lists):
+        return False
+    rests = plain_rests(square, chosen, paper)
+    if len(rests) > 12:
+        return False
+    aim = plain_aim([(r, c, square[r][c]) for r, c in chosen], paper)
+    choices = chain.from_iterable(combinations(rests, many) for many in range(len(rests) + 1))
+    return not any(sum(rests[cell] for cell in cells) % m == aim and not plain_clash(square, cells)
+                   for cells in choices)
+
+
+def round_paper(n, m, step):
+    """A plain paper for the round square of n, where n step is m."""
+    return m, *[[step * k for k in range(n)] for part in range(3)]
+
+
+def changed_paper(paper, changes):
+    """The paper with numbers put to those at places (part, k)."""
+    m, *lists = paper
+    lists = [list(numbers) for numbers in lists]
+    for (part, k), more in changes.items():
+        lists[part][k] += more
+    return m, *lists
 
 
 def lists_in(value):

@@ -5,7 +5,7 @@ from squaremates.errors import NoField
 from squaremates.fields import plus, times
 from squaremates.makings import field_squares, made_set, product, round_square
 from tests.helpers import (
-    FIELDS, FORTY, check_own, check_refused, drawn_order, drawn_square, is_square, plain_mates, plain_renamed,
+    FIELDS, FORTY, check_own, check_refused, drawn_set, drawn_square, is_square, plain_mates,
 )
 from tests.helpers import round_square as plain_round
 
@@ -115,9 +115,7 @@ class Products(unittest.TestCase):
         """Two squares of n things that are mates, or none."""
         if n in (2, 6):
             return None
-        pair = [[[0]], [[0]]] if n == 1 else draw.sample(field_squares(n), 2)
-        rows, columns = drawn_order(draw, n), drawn_order(draw, n)
-        return [plain_renamed(square, (rows, columns, drawn_order(draw, n))) for square in pair]
+        return [[[0]], [[0]]] if n == 1 else drawn_set(draw, n, 2)
 
     def test_products_of_mates_are_mates(self):
         draw = Random(12)

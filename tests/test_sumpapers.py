@@ -1,64 +1,21 @@
 import unittest
-from itertools import chain, combinations, product
+from itertools import product
 from random import Random
 
 from squaremates.sumpapers import plain_sum, sum_bars
 from tests.helpers import (
-    FORTY, WAYLESS_SIX, all_squares, check_own, drawn_order, drawn_renaming, drawn_square, drawn_squares,
-    plain_renamed, plain_ways, round_square,
+    FORTY, FOUR_ONCE, WAYLESS_SIX, all_squares, changed_paper, check_own, drawn_order, drawn_renaming,
+    drawn_square, drawn_squares, plain_aim, plain_bars, plain_renamed, plain_rests, plain_ways, round_paper,
+    round_square,
 )
 
-FOUR_ONCE = [[0, 1, 2, 3], [1, 0, 3, 2], [2, 3, 0, 1], [3, 2, 1, 0]]
 WAYLESS = [round_square(2), round_square(4), round_square(6)]
-
-
-def plain_rests(square, paper):
-    m, rows, columns, things = paper
-    n = len(square)
-    rests = {(r, c): (things[square[r][c]] - rows[r] - columns[c]) % m for r in range(n) for c in range(n)}
-    return {cell: rest for cell, rest in rests.items() if rest != 0}
-
-
-def plain_aim(paper):
-    m, rows, columns, things = paper
-    return (sum(things) - sum(rows) - sum(columns)) % m
-
-
-def plain_bars(square, paper):
-    """By the document's words, with all choices of cells gone through."""
-    m, *lists = paper
-    if m < 2 or any(len(numbers) != len(square) for numbers in lists):
-        return False
-    rests = plain_rests(square, paper)
-    if len(rests) > 12:
-        return False
-    for cells in chain.from_iterable(combinations(rests, many) for many in range(len(rests) + 1)):
-        rows, columns = {r for r, c in cells}, {c for r, c in cells}
-        things = {square[r][c] for r, c in cells}
-        if len(rows) == len(columns) == len(things) == len(cells):
-            if sum(rests[cell] for cell in cells) % m == plain_aim(paper):
-                return False
-    return True
-
-
-def round_paper(n, m, step):
-    """A plain paper for the round square of n, where n step is m."""
-    return m, *[[step * k for k in range(n)] for part in range(3)]
-
-
-def changed(paper, changes):
-    """The paper with numbers put to those at places (part, k)."""
-    m, *lists = paper
-    lists = [list(numbers) for numbers in lists]
-    for (part, k), more in changes.items():
-        lists[part][k] += more
-    return m, *lists
 
 
 class Bars(unittest.TestCase):
     def check(self, square, paper, wanted):
         self.assertIs(sum_bars(square, paper), wanted, (square, paper))
-        self.assertIs(plain_bars(square, paper), wanted, (square, paper))
+        self.assertIs(plain_bars(square, [], paper), wanted, (square, paper))
 
     def test_by_hand(self):
         self.check(round_square(2), (2, [0, 1], [0, 1], [0, 1]), True)
@@ -77,21 +34,21 @@ class Bars(unittest.TestCase):
 
     def test_choice_of_several_cells(self):
         square = round_square(4)
-        paper = changed(round_paper(4, 40, 10), {(2, 0): 10, (2, 1): 10})
-        self.assertEqual((plain_aim(paper), set(plain_rests(square, paper).values())), (0, {10}))
+        paper = changed_paper(round_paper(4, 40, 10), {(2, 0): 10, (2, 1): 10})
+        self.assertEqual((plain_aim([], paper), set(plain_rests(square, [], paper).values())), (0, {10}))
         self.check(square, paper, False)
-        paper = changed(round_paper(4, 40, 10), {(2, 0): -10, (2, 1): -10})
+        paper = changed_paper(round_paper(4, 40, 10), {(2, 0): -10, (2, 1): -10})
         self.check(square, paper, False)
-        paper = changed(round_paper(4, 40, 10), {(2, 0): 4, (2, 1): 4})
+        paper = changed_paper(round_paper(4, 40, 10), {(2, 0): 4, (2, 1): 4})
         self.check(square, paper, True)
 
     def test_cells_of_a_choice_do_not_touch(self):
         # Three times the rest would come to the aim, but its cells are in one row, one column, or have one thing.
         for part in range(3):
             for place in range(4):
-                paper = changed(round_paper(4, 20, 5), {(part, place): 5 if part == 2 else -5})
-                self.assertEqual(list(plain_rests(round_square(4), paper).values()), [5] * 4)
-                self.assertEqual(plain_aim(paper), 15)
+                paper = changed_paper(round_paper(4, 20, 5), {(part, place): 5 if part == 2 else -5})
+                self.assertEqual(list(plain_rests(round_square(4), [], paper).values()), [5] * 4)
+                self.assertEqual(plain_aim([], paper), 15)
                 self.check(round_square(4), paper, True)
         self.check(round_square(2), (FORTY, [0, 0], [0, 0], [1, 3]), True)
         self.check(round_square(2), (FORTY, [-1, -3], [0, 0], [0, 0]), True)
@@ -99,26 +56,26 @@ class Bars(unittest.TestCase):
 
     def test_at_most_twelve_cells(self):
         four, six = round_paper(4, 40, 10), round_paper(6, 60, 10)
-        twelve = changed(four, {(2, 0): 1, (2, 1): 1, (2, 2): 1})
-        thirteen = changed(twelve, {(0, 0): -1})
-        self.assertEqual(len(plain_rests(round_square(4), twelve)), 12)
-        self.assertEqual(len(plain_rests(round_square(4), thirteen)), 13)
+        twelve = changed_paper(four, {(2, 0): 1, (2, 1): 1, (2, 2): 1})
+        thirteen = changed_paper(twelve, {(0, 0): -1})
+        self.assertEqual(len(plain_rests(round_square(4), [], twelve)), 12)
+        self.assertEqual(len(plain_rests(round_square(4), [], thirteen)), 13)
         self.check(round_square(4), twelve, True)
         self.check(round_square(4), thirteen, False)
-        self.check(round_square(4), changed(twelve, {(2, 3): 1}), False)
+        self.check(round_square(4), changed_paper(twelve, {(2, 3): 1}), False)
         for part in range(3):
-            twelve = changed(six, {(part, 1): 1, (part, 4): 2})
-            self.assertEqual(len(plain_rests(round_square(6), twelve)), 12)
+            twelve = changed_paper(six, {(part, 1): 1, (part, 4): 2})
+            self.assertEqual(len(plain_rests(round_square(6), [], twelve)), 12)
             self.check(round_square(6), twelve, True)
-            self.check(round_square(6), changed(twelve, {(part, 2): 1}), False)
-            self.check(round_square(6), changed(twelve, {(part, k): 1 for k in range(6)}), False)
+            self.check(round_square(6), changed_paper(twelve, {(part, 2): 1}), False)
+            self.check(round_square(6), changed_paper(twelve, {(part, k): 1 for k in range(6)}), False)
 
     def test_m_of_two_and_of_forty_figures(self):
         self.check(round_square(6), round_paper(6, 2, 1), True)
         even = FORTY - 3
         self.assertEqual((even % 6, len(str(even))), (0, 40))
         self.check(round_square(6), round_paper(6, even, even // 6), True)
-        self.check(round_square(6), changed(round_paper(6, even, even // 6), {(1, 3): 7, (2, 2): -9}), True)
+        self.check(round_square(6), changed_paper(round_paper(6, even, even // 6), {(1, 3): 7, (2, 2): -9}), True)
         self.check(round_square(6), round_paper(6, FORTY, 1), False)
         for m in (10 ** 39, FORTY, 3, 17):
             self.check(round_square(2), (m, [0, 0], [0, 0], [1, 1]), True)
@@ -150,11 +107,11 @@ class Bars(unittest.TestCase):
             for paper in (round_paper(n, n, 1), round_paper(n, 10 * n, 10), round_paper(n, 2 * n, 1)):
                 m = paper[0]
                 for time in range(10):
-                    other = changed(paper, {(part, k): m * draw.randint(-10 ** 38, 10 ** 38)
+                    other = changed_paper(paper, {(part, k): m * draw.randint(-10 ** 38, 10 ** 38)
                                             for part in range(3) for k in range(n)})
-                    self.check(square, other, plain_bars(square, paper))
-                    moved = changed(other, {(2, 0): 1, (0, 0): -draw.randint(0, 3)})
-                    self.check(square, moved, plain_bars(square, moved))
+                    self.check(square, other, plain_bars(square, [], paper))
+                    moved = changed_paper(other, {(2, 0): 1, (0, 0): -draw.randint(0, 3)})
+                    self.check(square, moved, plain_bars(square, [], moved))
         self.check(round_square(2), (3, [-FORTY, FORTY], [0, 0], [1, 1]), True)
 
     def drawn_paper(self, draw, n):
@@ -165,7 +122,7 @@ class Bars(unittest.TestCase):
         step = draw.choice([1, 2, 5])
         places = [(part, k) for part in range(3) for k in range(n)]
         some = draw.sample(places, draw.choice([0, 1, 1, 2, 2, 3]))
-        return changed(round_paper(n, n * step, step), {place: draw.randint(-9, 9) for place in some})
+        return changed_paper(round_paper(n, n * step, step), {place: draw.randint(-9, 9) for place in some})
 
     def test_drawn_papers_by_the_words(self):
         draw = Random(25)
@@ -176,7 +133,7 @@ class Bars(unittest.TestCase):
                 renaming = drawn_renaming(draw, n)
                 m, *lists = paper
                 other = m, *[[numbers[order.index(k)] for k in range(n)] for numbers, order in zip(lists, renaming)]
-                told.append(plain_bars(square, paper))
+                told.append(plain_bars(square, [], paper))
                 self.check(square, paper, told[-1])
                 self.check(plain_renamed(square, renaming), other, told[-1])
         self.assertGreater(told.count(True), 60)
@@ -189,7 +146,7 @@ class Bars(unittest.TestCase):
             if plain_ways(square):
                 for time in range(15):
                     paper = self.drawn_paper(draw, len(square))
-                    few += len(plain_rests(square, paper)) <= 12
+                    few += len(plain_rests(square, [], paper)) <= 12
                     self.assertIs(sum_bars(square, paper), False)
         self.assertGreater(few, 100)
 
@@ -202,8 +159,8 @@ class PlainSum(unittest.TestCase):
         self.assertTrue(2 <= m <= len(square))
         self.assertEqual([len(numbers) for numbers in paper[1:]], [len(square)] * 3)
         self.assertTrue(all(isinstance(numbers, list) for numbers in paper[1:]))
-        self.assertEqual(plain_rests(square, paper), {})
-        self.assertNotEqual(plain_aim(paper), 0)
+        self.assertEqual(plain_rests(square, [], paper), {})
+        self.assertNotEqual(plain_aim([], paper), 0)
         self.assertIs(sum_bars(square, paper), True)
 
     def has_plain(self, square, m):
@@ -212,8 +169,8 @@ class PlainSum(unittest.TestCase):
         for rows in product(range(m), repeat=n):
             for things in product(range(m), repeat=n):
                 columns = [(things[thing] - rows[0]) % m for thing in square[0]]
-                if plain_aim((m, rows, columns, things)) != 0:
-                    if not plain_rests(square, (m, rows, columns, things)):
+                if plain_aim([], (m, rows, columns, things)) != 0:
+                    if not plain_rests(square, [], (m, rows, columns, things)):
                         return True
         return False
 
@@ -258,7 +215,7 @@ class PlainSum(unittest.TestCase):
                 if all((things[square[r][c]] - things[square[r][0]] - things[square[0][c]]) % m == 0
                        for r in range(n) for c in range(n)):
                     rows, columns = [things[row[0]] for row in square], [things[thing] for thing in square[0]]
-                    if plain_aim((m, rows, columns, things)) != 0:
+                    if plain_aim([], (m, rows, columns, things)) != 0:
                         return m
         return None
 

@@ -4,13 +4,13 @@ from random import Random
 
 from squaremates.ways import first_way, is_way, through, ways
 from tests.helpers import (
-    FORTY, UNEVEN, WAYLESS_SIX, all_orders, check_own, drawn_order, drawn_square, drawn_squares, plain_is_way,
-    plain_ways, round_square,
+    FORTY, FOUR_ONCE, UNEVEN, WAYLESS_SIX, all_orders, check_own, drawn_order, drawn_square, drawn_squares,
+    plain_is_way, plain_ways, round_square,
 )
 
 SAMPLES = [
     *drawn_squares(17, range(1, 7), 5), *[round_square(n) for n in range(1, 7)], *UNEVEN.values(),
-    *WAYLESS_SIX, [[0, 1, 2, 3], [1, 0, 3, 2], [2, 3, 0, 1], [3, 2, 1, 0]],
+    *WAYLESS_SIX, FOUR_ONCE,
 ]
 
 
@@ -78,7 +78,7 @@ class Ways(unittest.TestCase):
         self.assertEqual(ways([[0]]), [[0]])
         self.assertEqual(ways([[0, 1], [1, 0]]), [])
         self.assertEqual(ways([[0, 1, 2], [1, 2, 0], [2, 0, 1]]), [[0, 1, 2], [1, 2, 0], [2, 0, 1]])
-        self.assertEqual(ways([[0, 1, 2, 3], [1, 0, 3, 2], [2, 3, 0, 1], [3, 2, 1, 0]]), [
+        self.assertEqual(ways(FOUR_ONCE), [
             [0, 2, 3, 1], [0, 3, 1, 2], [1, 2, 0, 3], [1, 3, 2, 0],
             [2, 0, 1, 3], [2, 1, 3, 0], [3, 0, 2, 1], [3, 1, 0, 2],
         ])
