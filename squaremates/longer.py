@@ -26,11 +26,12 @@ def shortened(square):
     """The tuple of the square of one thing less and the way by which it is prolonged to this one, or None."""
     n = len(square) - 1
     # A square of one thing would come of one of no things, and there is no such square.
-    if n < 1 or square[n][n] != n:
+    if n < 1:
         return None
     upper = square[:n]
     way = [row.index(n) for row in upper]
-    # Where the last row and the last column agree, each row and column of the shorter one has each thing once.
+    # Where the last row and the last column agree, n stands in the corner, and each row and column of the shorter
+    # one has each thing once.
     if any(row[n] != square[n][c] for row, c in zip(upper, way)):
         return None
     shorter = [[row[n] if c == own else row[c] for c in range(n)] for row, own in zip(upper, way)]

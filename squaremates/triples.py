@@ -11,10 +11,9 @@ SEVEN = (0, 1, 3)
 
 def is_triples(n, triples):
     """Whether the tuples are triples of n: rising ones, in order, with any two numbers in just one."""
-    if n < 1 or n > MOST:
+    if n < 1 or n > MOST or triples != sorted(triples):
         return False
-    if triples != sorted(triples) or not all(a < b < c for a, b, c in triples):
-        return False
+    # Where all three pairs of a tuple are rising ones, so is the tuple.
     pairs = [pair for a, b, c in triples for pair in ((a, b), (a, c), (b, c))]
     return sorted(pairs) == rising_pairs(n)
 

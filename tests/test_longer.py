@@ -107,6 +107,7 @@ class Shortened(unittest.TestCase):
     def test_by_hand(self):
         self.assertEqual(shortened([[1, 0], [0, 1]]), ([[0]], [0]))
         self.assertIsNone(shortened([[0, 1], [1, 0]]))
+        self.assertIsNone(shortened([[0]]))
         self.assertEqual(shortened([[0, 3, 2, 1], [1, 2, 3, 0], [3, 0, 1, 2], [2, 1, 0, 3]]),
                          ([[0, 1, 2], [1, 2, 0], [2, 0, 1]], [1, 2, 0]))
 

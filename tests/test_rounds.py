@@ -171,6 +171,11 @@ class IsRounds(unittest.TestCase):
                 drawn = [sorted(pairs[k * half:(k + 1) * half]) for k in range(m - 1)]
                 self.assertIs(is_rounds(m, drawn), plain_is_rounds(m, drawn))
 
+    def test_other_sizes(self):
+        for m in (-2, -1, 0, 1, 3, 5, 7, 9, 10, FORTY, -FORTY):
+            for rounds in ([], [[]], plain_made(2), plain_made(8), plain_made(10)):
+                self.assertIs(is_rounds(m, rounds), False)
+
     def test_long_lists(self):
         for m in TEAMS:
             self.refused(m, [[(0, 1)] * 100] * 100)

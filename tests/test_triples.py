@@ -145,6 +145,14 @@ class IsTriples(unittest.TestCase):
                 self.refused(n, [triple for triple in triples if max(triple) < n])
             self.refused(n, list(combinations(range(n), 3)))
 
+    def test_sizes_beyond(self):
+        thirteen = sorted(tuple(sorted((k + put) % 13 for k in triple))
+                          for triple in ((0, 1, 4), (0, 2, 7)) for put in range(13))
+        self.assertTrue(plain_is_triples(13, thirteen))
+        for n in (0, -1, -FORTY, 10, 13, FORTY):
+            for triples in ([], [(0, 1, 2)], thirteen):
+                self.assertIs(is_triples(n, triples), False)
+
     def test_others_of_one(self):
         for triples in ([(0, 0, 0)], [(0, 0, 1)], [(-1, 0, 1)], [(0, 0, 0)] * 100, [(-FORTY, 0, FORTY)]):
             self.refused(1, triples)
